@@ -1,0 +1,1 @@
+"""Slackfigures: quotients and roots by looked-up figures with slack."""

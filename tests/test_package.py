@@ -1,0 +1,78 @@
+"""What holds of the package's files: where things are defined, and what they may use."""
+
+import ast
+import inspect
+import unittest
+from importlib import import_module
+from pathlib import Path
+
+TOP = Path(__file__).resolve().parent.parent
+PACKAGE = TOP / "slackfigures"
+
+# Each file of the interface, with the names that it defines and their parameters.
+DEFINED = {
+    "errors": {
+        "SlackError": None, "NoFigure": None, "NoTable": ["top", "look"], "NoLooks": None, "NoRoom": None,
+        "Spoilt": ["step"], "NoText": None, "NoRow": None, "NoMore": None, "NoWork": None, "NoCell": None,
+        "NoDeed": ["number"],
+    },
+    "kinds": {"is_kind": ["thing"], "bits_of": ["base"]},
+    "rows": {"worth": ["kind", "row"], "how_many": ["kind", "count", "number"]},
+}
+
+
+def trees():
+    return [(path, ast.parse(path.read_text())) for path in sorted(PACKAGE.glob("*.py"))]
+
+
+class TestPackage(unittest.TestCase):
+    def test_it_is_a_package(self):
+        self.assertTrue((PACKAGE / "__init__.py").is_file())
+
+    def test_each_name_is_defined_in_its_file(self):
+        for module, names in DEFINED.items():
+            tree = ast.parse((PACKAGE / f"{module}.py").read_text())
+            defined = [node.name for node in tree.body if isinstance(node, (ast.FunctionDef, ast.ClassDef))]
+            for name in names:
+                self.assertEqual(defined.count(name), 1, (module, name))
+
+    def test_arguments_are_taken_by_their_places(self):
+        for module, names in DEFINED.items():
+            for name, parameters in names.items():
+                if parameters is not None:
+                    made = inspect.signature(getattr(import_module(f"slackfigures.{module}"), name))
+                    self.assertEqual(list(made.parameters), parameters, (module, name))
+
+    def test_no_clock_no_chance_no_files(self):
+        # What needs one of them needs an import, or one of these builtins.
+        for path, tree in trees():
+            for node in ast.walk(tree):
+                self.assertNotIsInstance(node, ast.Import, path)
+                if isinstance(node, ast.ImportFrom):
+                    self.assertEqual(node.module.split(".")[0], "slackfigures", path)
+                if isinstance(node, ast.Name):
+                    self.assertNotIn(node.id, ("open", "input", "print", "exec", "eval", "hash", "id"), path)
+
+    def test_whole_numbers_only(self):
+        for path, tree in trees():
+            for node in ast.walk(tree):
+                self.assertNotIsInstance(node, ast.Div, path)
+                if isinstance(node, ast.Constant):
+                    self.assertNotIsInstance(node.value, (float, complex), path)
+
+    def test_sizes(self):
+        for path, tree in trees():
+            lines = path.read_text().split("\n")
+            self.assertLess(len(lines), 400, path)
+            self.assertLessEqual(max(len(line) for line in lines), 120, path)
+            for node in ast.walk(tree):
+                if isinstance(node, ast.FunctionDef):
+                    self.assertLessEqual(node.end_lineno - node.lineno + 1, 40, (path, node.name))
+
+    def test_plain_characters(self):
+        for path, tree in trees():
+            self.assertTrue(all(sign == "\n" or " " <= sign <= "~" for sign in path.read_text()), path)
+
+
+if __name__ == "__main__":
+    unittest.main()
