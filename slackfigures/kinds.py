@@ -18,6 +18,12 @@ def is_kind(thing):
     return base in BASES and base // 2 <= most <= base - 1
 
 
+def is_figure(kind, thing):
+    """Whether the thing, any one, is a figure of the kind."""
+    most = kind[1]
+    return is_whole(thing) and -most <= thing <= most
+
+
 def bits_of(base):
     """How many bits a digit of the base has: 1, 2, 3 or 4."""
     # The base is a power of two, so it has one bit more than its digits.

@@ -18,7 +18,24 @@ DEFINED = {
     },
     "kinds": {"is_kind": ["thing"], "bits_of": ["base"]},
     "rows": {"worth": ["kind", "row"], "how_many": ["kind", "count", "number"]},
+    "turning": {"held_worth": ["base", "held"], "Turner": ["base"]},
+    "pairs": {
+        "pair_worth": ["width", "pair"], "look_of": ["width", "pair", "low"],
+        "three_in_two": ["width", "one", "other", "third"],
+    },
+    "cells": {
+        "are_looks": ["kind", "looks"], "half_of": ["kind", "looks"], "is_met": ["kind", "looks", "sight", "cell"],
+        "good_figures": ["kind", "looks", "sight", "cell"],
+    },
+    "points": {
+        "is_point": ["kind", "looks", "point"], "cells_of": ["kind", "looks", "sight", "point"],
+        "serves": ["kind", "figure", "point"], "spoiler": ["kind", "looks", "sight", "cell", "figure"],
+        "two_points": ["kind", "looks", "sight", "cell"],
+    },
 }
+
+# Each class of the interface that has methods, with their parameters.
+METHODS = {("turning", "Turner"): {"put": ["self", "figure"], "held": ["self"], "below": ["self"]}}
 
 
 def trees():
@@ -43,6 +60,13 @@ class TestPackage(unittest.TestCase):
                     made = inspect.signature(getattr(import_module(f"slackfigures.{module}"), name))
                     self.assertEqual(list(made.parameters), parameters, (module, name))
 
+    def test_each_method_is_defined_in_its_class(self):
+        for (module, name), methods in METHODS.items():
+            made = vars(getattr(import_module(f"slackfigures.{module}"), name))
+            for method, parameters in methods.items():
+                self.assertIn(method, made, (module, name))
+                self.assertEqual(list(inspect.signature(made[method]).parameters), parameters, (name, method))
+
     def test_no_clock_no_chance_no_files(self):
         # What needs one of them needs an import, or one of these builtins.
         for path, tree in trees():
@@ -59,6 +83,12 @@ class TestPackage(unittest.TestCase):
                 self.assertNotIsInstance(node, ast.Div, path)
                 if isinstance(node, ast.Constant):
                     self.assertNotIsInstance(node.value, (float, complex), path)
+
+    def test_no_powers(self):
+        for path, tree in trees():
+            for node in ast.walk(tree):
+                if isinstance(node, ast.BinOp):
+                    self.assertNotIsInstance(node.op, ast.Pow, path)
 
     def test_sizes(self):
         for path, tree in trees():
