@@ -102,3 +102,35 @@ def good_reckoned(kind, looks, sight, cell):
 
 def is_met_reckoned(kind, looks, sight, cell):
     return bool(end_points(kind, looks, sight, cell))
+
+
+def cell_places(kind, looks, cell):
+    """Where the cell's entry stands in a table."""
+    return cell[0] - 2 ** (looks[0] - 1), cell[1] + half_reckoned(kind, looks)
+
+
+def filled_table(kind, looks, told):
+    """The table that has at each cell what told(cell) tells."""
+    half = half_reckoned(kind, looks)
+    return [[told((top, look)) for look in range(-half, half)] for top in tops_reckoned(looks)]
+
+
+def with_entry(kind, looks, table, cell, figure):
+    """A table of its own, like this one but for one cell."""
+    changed = [list(row) for row in table]
+    row, place = cell_places(kind, looks, cell)
+    changed[row][place] = figure
+    return changed
+
+
+def scaled_reckoned(kind, looks, x, divisor, many):
+    """The width, the scaled divisor and the first rest."""
+    scaled = divisor * kind[0] ** many
+    while scaled < 2 ** (max(looks) - 1):
+        scaled, x = 2 * scaled, 2 * x
+    return len(bin(scaled)) - 2, scaled, x
+
+
+def has_room_reckoned(kind, x, divisor, many):
+    base, most = kind
+    return (base - 1) * abs(x) <= most * divisor * base ** many

@@ -32,6 +32,19 @@ DEFINED = {
         "serves": ["kind", "figure", "point"], "spoiler": ["kind", "looks", "sight", "cell", "figure"],
         "two_points": ["kind", "looks", "sight", "cell"],
     },
+    "tables": {
+        "is_table": ["kind", "looks", "thing"], "entry": ["kind", "looks", "table", "cell"],
+        "first_fault": ["kind", "looks", "sight", "table"], "plain_table": ["kind", "looks", "sight"],
+    },
+    "quotients": {
+        "room": ["kind", "x", "divisor"], "divide": ["kind", "looks", "table", "x", "divisor", "many"],
+        "quotient": ["kind", "looks", "table", "x", "divisor"], "spoilt_by": ["kind", "looks", "table"],
+    },
+    "tworows": {
+        "divide_rows": ["kind", "looks", "table", "x", "divisor", "many"],
+        "trail": ["kind", "looks", "table", "x", "divisor", "many"],
+    },
+    "least": {"least_looks": ["kind", "sight"]},
 }
 
 # Each class of the interface that has methods, with their parameters.
