@@ -7,6 +7,8 @@ upper one. By sight 2 a cell is shown by the rests of its look and of the next o
 so that the sight is also how many looks wide a cell is.
 """
 
+from slackfigures.spans import spans_between, upper_ends
+
 MOST_CELLS = 20000
 
 
@@ -32,6 +34,17 @@ def tops_of(looks):
     """All tops, rising."""
     first = first_top(looks)
     return list(range(first, 2 * first))
+
+
+def is_top(looks, number):
+    """Whether the whole number, any one, is a top."""
+    return first_top(looks) <= number < 2 * first_top(looks)
+
+
+def is_cell(kind, looks, cell):
+    """Whether the two whole numbers, any ones, are a cell."""
+    half = half_of(kind, looks)
+    return is_top(looks, cell[0]) and -half <= cell[1] < half
 
 
 def met_bounds(kind, looks, sight, top):
@@ -78,3 +91,18 @@ def good_figures(kind, looks, sight, cell):
         return list(range(-kind[1], kind[1] + 1))
     least, greatest = good_bounds(kind, looks, sight, cell)
     return list(range(least, greatest + 1))
+
+
+def met_spans(kind, looks, sight, top):
+    """For each figure, rising, the looks of the top's met cells at which it is good."""
+    first, last = met_bounds(kind, looks, sight, top)
+    ends = upper_ends(kind, top, top + 1, looks[0], looks[1])
+    # What is too great for a rest is too small for minus that rest, each with a minus.
+    starts = [-end for end in reversed(ends)]
+    stops = [end - sight for end in ends]
+    return spans_between(kind, [first] + starts, stops + [last])
+
+
+def met_sheet(kind, looks, sight):
+    """The spans of all tops."""
+    return [(top, met_spans(kind, looks, sight, top)) for top in tops_of(looks)]

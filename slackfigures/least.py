@@ -1,9 +1,9 @@
 """The least looks that have a plain table, and why none ahead of them has one."""
 
-from slackfigures.cells import are_looks
-from slackfigures.errors import NoLooks, NoTable
+from slackfigures.cells import are_looks, met_sheet
+from slackfigures.errors import NoLooks
 from slackfigures.points import two_points
-from slackfigures.tables import plain_table
+from slackfigures.spans import first_bare
 
 
 def looks_in_order():
@@ -16,21 +16,12 @@ def looks_in_order():
     ]
 
 
-def first_bare_cell(kind, looks, sight):
-    """The first met cell at which no figure is good, or None."""
-    try:
-        plain_table(kind, looks, sight)
-    except NoTable as refused:
-        return refused.top, refused.look
-    return None
-
-
 def least_looks(kind, sight):
     """The least looks, and a paper on each let ones ahead of them."""
     papers = []
     for looks in looks_in_order():
         if are_looks(kind, looks):
-            cell = first_bare_cell(kind, looks, sight)
+            cell = first_bare(met_sheet(kind, looks, sight))
             if cell is None:
                 return looks, papers
             one, other = two_points(kind, looks, sight, cell)

@@ -1,16 +1,10 @@
 """Quotients, figure by figure, the figures looked up in a table."""
 
-from slackfigures.errors import NoRoom, Spoilt
-from slackfigures.kinds import bits_of
-from slackfigures.points import any_point, cells_of, serves, spoiler
+from slackfigures.errors import Spoilt
+from slackfigures.points import any_point, spoiler
 from slackfigures.rows import worth
 from slackfigures.tables import entry, first_fault
-
-
-def has_room(kind, x, divisor, many):
-    """Whether so many figures are enough for x by the divisor."""
-    base, most = kind
-    return (base - 1) * abs(x) <= (most * divisor) << (bits_of(base) * many)
+from slackfigures.works import OneRow, has_room, serving_figure
 
 
 def room(kind, x, divisor):
@@ -21,35 +15,17 @@ def room(kind, x, divisor):
     return many
 
 
-def first_point(kind, looks, x, divisor, many):
-    """The width, the scaled divisor and the first rest; refused where there is no room."""
-    if not has_room(kind, x, divisor, many):
-        raise NoRoom("the number needs more figures")
-    scaled = divisor << (bits_of(kind[0]) * many)
-    more = max(0, max(looks) - scaled.bit_length())
-    return scaled.bit_length() + more, scaled << more, x << more
-
-
-def serving_figure(kind, looks, table, cell, point):
-    """The entry at the cell, where it is a figure that serves the point, else None."""
-    figure = entry(kind, looks, table, cell)
-    if figure is None or not serves(kind, figure, point):
-        return None
-    return figure
-
-
 def divide(kind, looks, table, x, divisor, many):
     """The row of many figures, and the rest that it leaves of x."""
-    wide, scaled, rest = first_point(kind, looks, x, divisor, many)
+    work = OneRow(kind, looks, x, divisor, many)
     row = []
     for step in range(many):
-        point = (wide, scaled, kind[0] * rest)
-        cell = cells_of(kind, looks, 1, point)[0]
+        cell, point = work.seen()
         figure = serving_figure(kind, looks, table, cell, point)
         if figure is None:
             raise Spoilt(step)
         row.append(figure)
-        rest = point[2] - figure * scaled
+        work.take(figure)
     return row, x - worth(kind, row) * divisor
 
 

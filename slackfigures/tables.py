@@ -1,8 +1,8 @@
 """Tables: a figure, or None, for each cell."""
 
-from slackfigures.cells import are_looks, first_top, good_bounds, half_of, is_met, met_bounds, tops_of
-from slackfigures.errors import NoTable
+from slackfigures.cells import are_looks, first_top, half_of, met_sheet
 from slackfigures.kinds import is_figure
+from slackfigures.spans import first_wrong, plain_rows
 
 
 def is_entry(kind, thing):
@@ -32,45 +32,22 @@ def entry(kind, looks, table, cell):
     return table[top - first_top(looks)][look + half_of(kind, looks)]
 
 
-def met_cells(kind, looks, sight):
-    """All cells that are met, by top, then by look."""
-    cells = []
-    for top in tops_of(looks):
-        first, last = met_bounds(kind, looks, sight, top)
-        cells.extend([(top, look) for look in range(first, last + 1)])
-    return cells
+def put_entry(kind, looks, table, cell, figure):
+    """Changes what stands in the table at the cell."""
+    top, look = cell
+    table[top - first_top(looks)][look + half_of(kind, looks)] = figure
 
 
-def is_good(kind, looks, sight, cell, figure):
-    """Whether it is a figure, not None, and good at the cell, which is met."""
-    if figure is None:
-        return False
-    least, greatest = good_bounds(kind, looks, sight, cell)
-    return least <= figure <= greatest
+def copy_of_table(table):
+    """A table like this one that shares no list with it."""
+    return [list(row) for row in table]
 
 
 def first_fault(kind, looks, sight, table):
     """The first met cell at which no good figure stands, or None."""
-    for cell in met_cells(kind, looks, sight):
-        if not is_good(kind, looks, sight, cell, entry(kind, looks, table, cell)):
-            return cell
-    return None
-
-
-def plain_entry(kind, looks, sight, cell):
-    """The good figure nearest to 0, or None where the cell is not met."""
-    if not is_met(kind, looks, sight, cell):
-        return None
-    least, greatest = good_bounds(kind, looks, sight, cell)
-    if least > greatest:
-        raise NoTable(cell[0], cell[1])
-    return max(least, min(greatest, 0))
+    return first_wrong(half_of(kind, looks), met_sheet(kind, looks, sight), table)
 
 
 def plain_table(kind, looks, sight):
     """The table with the good figure nearest to 0 at each met cell."""
-    half = half_of(kind, looks)
-    return [
-        [plain_entry(kind, looks, sight, (top, look)) for look in range(-half, half)]
-        for top in tops_of(looks)
-    ]
+    return plain_rows(half_of(kind, looks), met_sheet(kind, looks, sight))

@@ -1,6 +1,7 @@
 """What several tests ask for: reckoned from the document alone, by nothing of the package."""
 
 BASES = (2, 4, 8, 16)
+BITS = {2: 1, 4: 2, 8: 3, 16: 4}
 KINDS = [(base, most) for base in BASES for most in range(base // 2, base)]
 
 # What is neither a whole number nor None.
@@ -134,3 +135,25 @@ def scaled_reckoned(kind, looks, x, divisor, many):
 def has_room_reckoned(kind, x, divisor, many):
     base, most = kind
     return (base - 1) * abs(x) <= most * divisor * base ** many
+
+
+def room_reckoned(kind, x, divisor):
+    many = 0
+    while not has_room_reckoned(kind, x, divisor, many):
+        many += 1
+    return many
+
+
+def signed(number, width):
+    """The number from -(2 ** (width - 1)) on that differs by a multiple of 2 ** width."""
+    return (number + 2 ** (width - 1)) % 2 ** width - 2 ** (width - 1)
+
+
+def next_pair_reckoned(width, one, other, third):
+    """Three in two, by what is left of the sum without the first number."""
+    single = one ^ other ^ third
+    return single, (one + other + third - single) % 2 ** width
+
+
+def copy_reckoned(table):
+    return [list(row) for row in table]

@@ -45,10 +45,23 @@ DEFINED = {
         "trail": ["kind", "looks", "table", "x", "divisor", "many"],
     },
     "least": {"least_looks": ["kind", "sight"]},
+    "stands": {
+        "stands": ["kind", "looks", "table", "divisor"], "first_showing": ["kind", "looks", "table", "wide", "cell"],
+    },
+    "roots": {
+        "root_good": ["kind", "looks", "fresh", "cell"], "first_root_fault": ["kind", "looks", "fresh", "table"],
+        "root_table": ["kind", "looks", "fresh"], "root": ["kind", "looks", "fresh", "table", "number"],
+        "root_steps": ["kind", "looks", "fresh", "table", "number"],
+    },
+    "texts": {"show_table": ["table"], "read_table": ["kind", "looks", "text"]},
+    "desk": {"Desk": []},
 }
 
 # Each class of the interface that has methods, with their parameters.
-METHODS = {("turning", "Turner"): {"put": ["self", "figure"], "held": ["self"], "below": ["self"]}}
+METHODS = {
+    ("turning", "Turner"): {"put": ["self", "figure"], "held": ["self"], "below": ["self"]},
+    ("desk", "Desk"): {"say": ["self", "row"]},
+}
 
 
 def trees():

@@ -10,18 +10,11 @@ from slackfigures.rows import worth
 from slackfigures.tables import first_fault, plain_table
 from tests.common import (
     KINDS, cell_places, cells_reckoned, figures_of, filled_table, has_room_reckoned, is_met_reckoned, is_whole,
-    scaled_reckoned, serves_reckoned, shown_reckoned, with_entry,
+    room_reckoned, scaled_reckoned, serves_reckoned, shown_reckoned, with_entry,
 )
 from tests.divisions import BOTH_SIGHTS, ONE_SIGHT, some_pairs, tables_let_by, wrong_tables
 
 TOP = Path(__file__).resolve().parent.parent
-
-
-def room_reckoned(kind, x, divisor):
-    many = 0
-    while not has_room_reckoned(kind, x, divisor, many):
-        many += 1
-    return many
 
 
 def divided_reckoned(kind, looks, table, x, divisor, many):

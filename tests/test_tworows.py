@@ -9,31 +9,12 @@ from slackfigures.rows import worth
 from slackfigures.tables import plain_table
 from slackfigures.tworows import divide_rows, trail
 from tests.common import (
-    cell_places, figures_of, filled_table, has_room_reckoned, is_whole, scaled_reckoned, serves_reckoned,
-    shown_reckoned,
+    BITS, cell_places, figures_of, filled_table, has_room_reckoned, is_whole, next_pair_reckoned, room_reckoned,
+    scaled_reckoned, serves_reckoned, shown_reckoned, signed,
 )
 from tests.divisions import BOTH_SIGHTS, some_pairs, tables_let_by, wrong_tables
 
 TOP = Path(__file__).resolve().parent.parent
-BITS = {2: 1, 4: 2, 8: 3, 16: 4}
-
-
-def room_reckoned(kind, x, divisor):
-    many = 0
-    while not has_room_reckoned(kind, x, divisor, many):
-        many += 1
-    return many
-
-
-def signed(number, width):
-    """The number from -(2 ** (width - 1)) on that differs by a multiple of 2 ** width."""
-    return (number + 2 ** (width - 1)) % 2 ** width - 2 ** (width - 1)
-
-
-def next_pair(width, one, other, third):
-    """Three in two, by what is left of the sum without the first number."""
-    single = one ^ other ^ third
-    return single, (one + other + third - single) % 2 ** width
 
 
 def walked(kind, looks, table, x, divisor, many):
@@ -54,7 +35,7 @@ def walked(kind, looks, table, x, divisor, many):
         if figure is None or not serves_reckoned(kind, figure, (wide, scaled, signed(one + other, width))):
             return "spoilt", step
         steps.append((pair[0], pair[1], look, figure))
-        pair = next_pair(width, one, other, -figure * scaled % 2 ** width)
+        pair = next_pair_reckoned(width, one, other, -figure * scaled % 2 ** width)
     return "told", steps
 
 
