@@ -55,12 +55,22 @@ DEFINED = {
     },
     "texts": {"show_table": ["table"], "read_table": ["kind", "looks", "text"]},
     "desk": {"Desk": []},
+    "mends": {"mended": ["kind", "looks", "sight", "table"]},
+    "summers": {"Summer": ["kind"]},
+    "bench": {"Bench": ["kind", "looks", "table"], "replayed": ["kind", "looks", "table", "deeds"]},
+    "deeds": {"show_deeds": ["deeds"], "read_deeds": ["text"]},
 }
 
 # Each class of the interface that has methods, with their parameters.
 METHODS = {
     ("turning", "Turner"): {"put": ["self", "figure"], "held": ["self"], "below": ["self"]},
     ("desk", "Desk"): {"say": ["self", "row"]},
+    ("summers", "Summer"): {"put": ["self", "one", "other"], "end": ["self"], "told": ["self"]},
+    ("bench", "Bench"): {
+        "begin": ["self", "x", "divisor", "many"], "begin_rows": ["self", "x", "divisor", "many"], "go": ["self", "number"],
+        "put": ["self", "top", "look", "figure"], "row": ["self", "number"], "rest": ["self", "number"], "looked": ["self"],
+        "wrong": ["self", "sight"], "entries": ["self"], "deeds": ["self"],
+    },
 }
 
 
