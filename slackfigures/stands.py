@@ -26,13 +26,14 @@ class Runs:
 
     def behind(self, pair, look):
         """The pair of the next step, None where it is spoilt, and whether the step looks at the look."""
-        self.work.pair = pair
-        cell, point = self.work.seen()
+        work = self.work
+        work.pair = pair
+        cell, point = work.seen()
         figure = serving_figure(self.kind, self.looks, self.table, cell, point)
         if figure is None:
             return None, cell[1] == look
-        self.work.take(figure)
-        return self.work.pair, cell[1] == look
+        work.take(figure)
+        return work.pair, cell[1] == look
 
     def advance(self, look):
         """Does a step of each run; the beginning of the first one that looks at the look is told, else None."""

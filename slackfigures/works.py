@@ -63,17 +63,17 @@ class TwoRows:
         self.top = scaled >> (wide - looks[0])
         self.low = wide - looks[1]
         self.width = wide + bits_of(kind[0]) + 2
+        self.whole = 1 << self.width
         self.pair = self.stand(left_over)
 
     def stand(self, number):
         """The pair that holds the number in its first row alone."""
-        return number % (1 << self.width), 0
+        return number % self.whole, 0
 
     def taken(self):
         """The pair taken times the base, within the width."""
-        whole = 1 << self.width
         one, other = self.pair
-        return (self.base * one) % whole, (self.base * other) % whole
+        return (self.base * one) % self.whole, (self.base * other) % self.whole
 
     def seen(self):
         """The cell that the next step looks at, and the point at which it does."""
@@ -84,5 +84,5 @@ class TwoRows:
     def take(self, figure):
         """Goes on by the figure."""
         one, other = self.taken()
-        less = (-figure * self.scaled) % (1 << self.width)
+        less = (-figure * self.scaled) % self.whole
         self.pair = three_in_two(self.width, one, other, less)

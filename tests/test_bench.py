@@ -2,6 +2,7 @@ import random
 import subprocess
 import sys
 import unittest
+from copy import deepcopy
 from pathlib import Path
 
 from slackfigures.bench import Bench, replayed
@@ -86,13 +87,14 @@ class Known:
 
 
 def seen_of(bench):
-    """All that is told of a bench."""
+    """All that is told of a bench, copied, so that it stays even where the bench tells its own lists."""
     works = []
     while True:
         try:
             works.append((bench.row(len(works)), bench.rest(len(works))))
         except NoWork:
-            return works, bench.looked(), bench.wrong(1), bench.wrong(2), bench.entries(), bench.deeds()
+            told = works, bench.looked(), bench.wrong(1), bench.wrong(2), bench.entries(), bench.deeds()
+            return deepcopy(told)
 
 
 def finished(bench, number):
